@@ -4,6 +4,7 @@ import (
 	"slices"
 
 	"forestay/api"
+	"forestay/copies"
 )
 
 // shelf holds objects of its own, rising by id, while others come to it.
@@ -12,7 +13,7 @@ type shelf struct{ objects []api.Object }
 func newShelf(l []api.Object) *shelf {
 	s := &shelf{}
 	for _, o := range l {
-		s.objects = append(s.objects, copyOf(o))
+		s.objects = append(s.objects, copies.Object(o))
 	}
 	return s
 }
@@ -25,7 +26,7 @@ func (s *shelf) take(o api.Object) api.Errno {
 		}
 		return api.OK
 	}
-	s.objects = slices.Insert(s.objects, countBelow(s.objects, o.Id), copyOf(o))
+	s.objects = slices.Insert(s.objects, countBelow(s.objects, o.Id), copies.Object(o))
 	return api.OK
 }
 
@@ -46,10 +47,4 @@ func countBelow(l []api.Object, id int) int {
 
 func same(a, b api.Object) bool {
 	return a.Id == b.Id && a.Kind == b.Kind && a.Text == b.Text && slices.Equal(a.Links, b.Links)
-}
-
-// copyOf an object, with links of its own, so that no caller's change is seen by another one.
-func copyOf(o api.Object) api.Object {
-	o.Links = append([]int(nil), o.Links...)
-	return o
 }

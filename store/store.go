@@ -3,6 +3,7 @@ package store
 
 import (
 	"forestay/api"
+	"forestay/copies"
 	"forestay/object"
 )
 
@@ -33,7 +34,7 @@ func Find(l []api.Object, id int) (api.Object, api.Errno) {
 	if at < 0 {
 		return api.Object{}, api.ErrNone
 	}
-	return copyOf(l[at]), api.OK
+	return copies.Object(l[at]), api.OK
 }
 
 // Add objects.
