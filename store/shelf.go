@@ -11,11 +11,7 @@ import (
 type shelf struct{ objects []api.Object }
 
 func newShelf(l []api.Object) *shelf {
-	s := &shelf{}
-	for _, o := range l {
-		s.objects = append(s.objects, copies.Object(o))
-	}
-	return s
+	return &shelf{objects: copies.Objects(l)}
 }
 
 // take an object to its place; what is there already stays as it was.
