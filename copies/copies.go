@@ -32,3 +32,12 @@ func Replica(r api.Replica) api.Replica {
 	r.Pending = Push(r.Pending)
 	return r
 }
+
+// Cluster with replicas of its own.
+func Cluster(c api.Cluster) api.Cluster {
+	var own api.Cluster
+	for _, r := range c.Replicas {
+		own.Replicas = append(own.Replicas, Replica(r))
+	}
+	return own
+}

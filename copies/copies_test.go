@@ -105,3 +105,16 @@ func TestP2Replica(t *testing.T) {
 		expectOwn(t, own, r)
 	}
 }
+
+func TestP2Cluster(t *testing.T) {
+	r := api.Replica{Store: crowd(), Refs: []api.Ref{{Name: "a", Id: 1}}, Gen: 3, Phase: 1, Pending: api.Push{Objects: crowd(), Updates: []api.Update{{Name: "a", New: 2}}}}
+	// All of one memory: a caller may hand in the same replica thrice.
+	for _, c := range []api.Cluster{{}, {Replicas: []api.Replica{}}, {Replicas: make([]api.Replica, 3)}, {Replicas: []api.Replica{r, {Gen: 5}, r, r}}} {
+		was := fmt.Sprint(c)
+		own := Cluster(c)
+		if fmt.Sprint(own) != was {
+			t.Errorf("the copy is %v, must be %s", own, was)
+		}
+		expectOwn(t, own, c)
+	}
+}
